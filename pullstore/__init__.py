@@ -1,0 +1,1 @@
+"""Pullstore: append-only logs that pull the first missing entry."""

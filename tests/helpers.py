@@ -1,0 +1,238 @@
+"""What the tests share: the conventions of point 2, and small worlds to go through.
+
+The oracles here and in the tests follow the words of the document and call nothing of the
+program, so that the program is compared with the document and not with itself.
+"""
+
+import inspect
+import itertools
+import random
+import unittest
+
+from pullstore.cluster import Cluster
+from pullstore.errors import StoreError
+from pullstore.net import Net
+
+HUGE = 10 ** 30 - 1
+# Integers that are never a replica or an entry, also not of the largest cluster.
+NOWHERE = [-1, -2, 60, 61, HUGE, -HUGE]
+
+ATTRIBUTES = ("kind", "replica", "entry", "inside", "trace")
+
+
+class Raised:
+    """An error, written as the document writes it: InvalidNet(link=(1, 2))."""
+
+    def __init__(self, error):
+        told = ", ".join(f"{name}={worth!r}" for name, worth in vars(error).items())
+        self.text = f"{error.__class__.__name__}({told})"
+
+
+def plain(value):
+    """A copy of the value in which objects are written out."""
+    if isinstance(value, Raised):
+        return value.text
+    if isinstance(value, Net):
+        return ("Net", value.count, value.links)
+    if isinstance(value, Cluster):
+        return ("Cluster", plain(value.net), value.size, value.homes)
+    if isinstance(value, list):
+        return [plain(item) for item in value]
+    if isinstance(value, tuple):
+        return tuple(plain(item) for item in value)
+    if isinstance(value, dict):
+        return {key: plain(worth) for key, worth in value.items()}
+    if value.__class__.__module__.startswith("pullstore."):
+        kept = [(name, plain(getattr(value, name))) for name in ATTRIBUTES if hasattr(value, name)]
+        return (value.__class__.__name__, *kept)
+    return value
+
+
+def lists_in(value):
+    """Every list and dict in the value, as often as it stands there."""
+    found = []
+    if isinstance(value, (list, dict)):
+        found.append(value)
+    if isinstance(value, (list, tuple)):
+        for item in value:
+            found.extend(lists_in(item))
+    if isinstance(value, dict):
+        for item in value.values():
+            found.extend(lists_in(item))
+    return found
+
+
+def outcome(function, arguments, options):
+    """The answer or the error; of a generator its items and then the error, if there is one."""
+    try:
+        answer = function(*arguments, **options)
+        if not inspect.isgenerator(answer):
+            return answer
+    except StoreError as error:
+        return Raised(error)
+    items = []
+    try:
+        for item in answer:
+            items.append(item)
+    except StoreError as error:
+        items.append(Raised(error))
+    return items
+
+
+class PromiseCase(unittest.TestCase):
+    """A test case that checks the conventions of point 2 with each question."""
+
+    maxDiff = None
+
+    def ask(self, function, *arguments, **options):
+        """The answer, with objects written out and an error as a string."""
+        asked = [getattr(function, "__self__", None), arguments, options]
+        before = plain(asked)
+        first = outcome(function, arguments, options)
+        answer = plain(first)
+        self.assertEqual(repr(plain(asked)), repr(before), "the call changed something")
+        found = lists_in(first)
+        known = [id(one) for one in lists_in([arguments, options])]
+        self.assertEqual(len(found), len(set(id(one) for one in found)), "a list stands twice")
+        self.assertFalse([one for one in found if id(one) in known], "an argument came back")
+        for one in found:
+            one.clear()
+        self.assertEqual(repr(plain(asked)), repr(before), "the answer is not new")
+        second = outcome(function, arguments, options)
+        self.assertEqual(repr(plain(second)), repr(answer), "another answer the second time")
+        return answer
+
+    def gives(self, expected, function, *arguments, **options):
+        """Asks, and compares the answer. repr also tells True from 1 and lists from tuples."""
+        self.assertEqual(repr(self.ask(function, *arguments, **options)), repr(expected))
+
+    def fails(self, error, function, *arguments, **options):
+        """Asks, and compares the error with one as InvalidNet(link=(1, 2))."""
+        self.assertEqual(self.ask(function, *arguments, **options), error)
+
+
+def all_nets(count):
+    """Every net with so many replicas."""
+    pairs = [(x, y) for x in range(count) for y in range(count) if x != y]
+    for many in range(len(pairs) + 1):
+        for links in itertools.combinations(pairs, many):
+            yield Net(count, list(links))
+
+
+def all_trees(count):
+    """The lists of pairs of every tree with so many replicas, in every numbering."""
+    if count == 1:
+        yield []
+        return
+    pairs = list(itertools.combinations(range(count), 2))
+    for chosen in itertools.combinations(pairs, count - 1):
+        group = list(range(count))
+        for x, y in chosen:
+            group = [group[y] if one == group[x] else one for one in group]
+        if len(set(group)) == 1:
+            yield list(chosen)
+
+
+def reached_from(links, starts):
+    """The replicas that are reached from the starts along the links, by repeating one step."""
+    found = set(starts)
+    while True:
+        more = {reader for source, reader in links if source in found} - found
+        if not more:
+            return sorted(found)
+        found |= more
+
+
+def offered(logs, source, reader, rule):
+    """The entries on offer at the link, as point 8 says."""
+    news = [entry for entry in logs[source] if entry not in logs[reader]]
+    return news if rule == "any" else news[:1]
+
+
+def possible(cluster, logs, rule="first"):
+    """All allowed actions, as point 8 says."""
+    held = {entry for log in logs for entry in log}
+    actions = [("write", entry) for entry in range(len(cluster.homes)) if entry not in held]
+    for source, reader in cluster.net.links:
+        for entry in offered(logs, source, reader, rule):
+            actions.append(("pull", source, reader, entry))
+    return actions
+
+
+def after_action(cluster, logs, action):
+    """The logs after an action that is allowed."""
+    place = cluster.homes[action[1]] if action[0] == "write" else action[2]
+    return [log + [action[-1]] if replica == place else list(log) for replica, log in enumerate(logs)]
+
+
+def all_reached(cluster, start):
+    """The reprs of all logs that some run from the start leads to."""
+    seen = {repr(start)}
+    waiting = [start]
+    while waiting:
+        logs = waiting.pop()
+        for action in possible(cluster, logs):
+            later = after_action(cluster, logs, action)
+            if repr(later) not in seen:
+                seen.add(repr(later))
+                waiting.append(later)
+    return seen
+
+
+def all_logs(cluster):
+    """Every list of logs of the cluster."""
+    entries = range(len(cluster.homes))
+    one = [list(log) for many in range(len(entries) + 1) for log in itertools.permutations(entries, many)]
+    for logs in itertools.product(one, repeat=cluster.net.count):
+        yield [list(log) for log in logs]
+
+
+def some_net(chance):
+    """A net of a few replicas of a kind that the chance picks."""
+    count = chance.randint(1, 5)
+    made = [Net.line, Net.star, Net.complete, Net.ring]
+    kind = chance.randrange(len(made) + 1)
+    if kind < len(made):
+        return made[kind](count)
+    pairs = [(x, y) for x in range(count) for y in range(count) if x != y]
+    return Net(count, [pair for pair in pairs if chance.random() < 0.5])
+
+
+def some_cluster(chance, most=6):
+    """A cluster of a few entries on such a net."""
+    net = some_net(chance)
+    return Cluster(net, [chance.randrange(net.count) for _ in range(chance.randint(0, most))])
+
+
+def some_logs(chance, cluster):
+    """Logs of the cluster, which need not be reachable."""
+    logs = []
+    for _ in range(cluster.net.count):
+        log = list(range(len(cluster.homes)))
+        chance.shuffle(log)
+        logs.append(log[:chance.randint(0, len(log))])
+    return logs
+
+
+def some_run(chance, cluster, start, most, rule="first"):
+    """A run of at most so many actions from the start, and the logs after it."""
+    logs = [list(log) for log in start]
+    trace = []
+    while len(trace) < most:
+        actions = possible(cluster, logs, rule)
+        if not actions:
+            break
+        action = chance.choice(actions)
+        trace.append(action)
+        logs = after_action(cluster, logs, action)
+    return trace, logs
+
+
+def cut_logs(chance, logs):
+    """A prefix of the logs."""
+    return [log[:chance.randint(0, len(log))] for log in logs]
+
+
+def chances(many, seed):
+    """So many sources of chance, always the same ones."""
+    return [random.Random(f"{seed} {number}") for number in range(many)]

@@ -1,0 +1,45 @@
+"""The examples that the interface gives for the modules that are there."""
+
+from helpers import PromiseCase
+from pullstore.cluster import Cluster
+from pullstore.evidence import Barrier
+from pullstore.logs import ahead_of, missing_pairs, restrict
+from pullstore.net import Net
+from pullstore.paths import reach_within, tree_path, tree_side
+from pullstore.run import allowed_actions, replay
+from pullstore.settle import settle
+
+
+class ExamplesTest(PromiseCase):
+    def test_net(self):
+        self.gives([(0, 1), (1, 0), (1, 2), (2, 1)], lambda: Net.line(3).links)
+        self.gives([2], Net(3, [(2, 0), (0, 1), (2, 0)]).sources, 0)
+        self.fails("InvalidNet(link=(1, 2))", Net, 2, [(0, 1), (1, 2), (3, 3)])
+
+    def test_paths(self):
+        net = Net.star(4)
+        self.gives([3, 0, 1], tree_path, net, 3, 1)
+        self.gives([0, 1, 3], tree_side, net, 0, 2)
+        self.gives([1, 2], reach_within, Net.ring(4), [1, 3], [0, 1, 2])
+
+    def test_logs(self):
+        cluster = Cluster(Net.line(3), [0, 2, 2])
+        logs = [[0, 1], [0, 1, 2], [1, 2]]
+        self.gives([0, 1], ahead_of, cluster, logs, 1, 2)
+        self.gives([(0, 1), (1, 2)], missing_pairs, cluster, [[0], [0, 1], [1, 2]], logs)
+        self.gives([[0], [0, 2], [2]], restrict, cluster, logs, 2, 0)
+
+    def test_settle(self):
+        cluster = Cluster(Net.line(3), [0, 2])
+        logs = replay(cluster, [[], [], []], [("write", 0), ("write", 1)])
+        self.gives([("pull", 0, 1, 0), ("pull", 2, 1, 1)], allowed_actions, cluster, logs)
+        expected = [("pull", 0, 1, 0), ("pull", 1, 2, 0), ("pull", 2, 1, 1), ("pull", 1, 0, 1)]
+        self.gives(expected, settle, cluster, logs)
+
+    def test_evidence(self):
+        # The example stands under audit; the barrier that it shows is judged here.
+        cluster = Cluster(Net.line(2), [0, 0])
+        found = Barrier(1, [0])
+        self.assertEqual([found.kind, found.entry, found.inside], ["barrier", 1, [0]])
+        self.gives([(0, 1, 0)], found.bars, cluster, [[0, 1], [1]])
+        self.gives(True, found.holds, cluster, [[], []], [[0, 1], [1]])

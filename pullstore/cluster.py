@@ -44,3 +44,8 @@ def check_entry(cluster, entry):
     """Raises UnknownEntry if the cluster has no such entry."""
     if entry not in range(cluster.size):
         raise UnknownEntry(entry)
+
+
+def entry_pairs(cluster):
+    """All pairs (first, second) of entries with first < second, in ascending order."""
+    return [(first, second) for first in range(cluster.size) for second in range(first + 1, cluster.size)]

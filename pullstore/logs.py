@@ -67,7 +67,7 @@ def is_prefix(cluster, start, goal):
     """Whether each log of the start is equal to the first items of the log of the goal."""
     before = check_logs(cluster, start)
     after = check_logs(cluster, goal)
-    return all(begins_with(after[replica], log) for replica, log in enumerate(before))
+    return prefix_break(before, after) is None
 
 
 def begins_with(log, items):
@@ -75,11 +75,19 @@ def begins_with(log, items):
     return log[:len(items)] == items
 
 
-def check_prefix(start, goal):
-    """Raises NotPrefix if the start is not a prefix of the goal."""
+def prefix_break(start, goal):
+    """The least replica whose log in the start is not a prefix of its log in the goal, or None."""
     for replica, log in enumerate(start):
         if not begins_with(goal[replica], log):
-            raise NotPrefix(replica)
+            return replica
+    return None
+
+
+def check_prefix(start, goal):
+    """Raises NotPrefix if the start is not a prefix of the goal."""
+    replica = prefix_break(start, goal)
+    if replica is not None:
+        raise NotPrefix(replica)
 
 
 def missing_pairs(cluster, start, goal):

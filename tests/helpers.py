@@ -10,7 +10,9 @@ import random
 import unittest
 
 from pullstore.cluster import Cluster
-from pullstore.errors import StoreError
+from pullstore.errors import StoreError, Unreachable
+from pullstore.evidence import Evidence
+from pullstore.guide import Guide
 from pullstore.net import Net
 
 HUGE = 10 ** 30 - 1
@@ -24,8 +26,14 @@ class Raised:
     """An error, written as the document writes it: InvalidNet(link=(1, 2))."""
 
     def __init__(self, error):
-        told = ", ".join(f"{name}={worth!r}" for name, worth in vars(error).items())
+        self.worths = list(vars(error).values())
+        told = ", ".join(f"{name}={plain(worth)!r}" for name, worth in vars(error).items())
         self.text = f"{error.__class__.__name__}({told})"
+
+
+def unreachable(evidence):
+    """The error that tells this evidence, written out."""
+    return Raised(Unreachable(evidence)).text
 
 
 def plain(value):
@@ -36,20 +44,30 @@ def plain(value):
         return ("Net", value.count, value.links)
     if isinstance(value, Cluster):
         return ("Cluster", plain(value.net), value.size, value.homes)
+    if isinstance(value, Guide):
+        return ("Guide", value.logs, value.left, value.next_action(), value.taken())
     if isinstance(value, list):
         return [plain(item) for item in value]
     if isinstance(value, tuple):
         return tuple(plain(item) for item in value)
     if isinstance(value, dict):
         return {key: plain(worth) for key, worth in value.items()}
-    if value.__class__.__module__.startswith("pullstore."):
-        kept = [(name, plain(getattr(value, name))) for name in ATTRIBUTES if hasattr(value, name)]
-        return (value.__class__.__name__, *kept)
+    if isinstance(value, Evidence):
+        return (value.__class__.__name__, *kept_by(value))
     return value
+
+
+def kept_by(evidence):
+    """The attributes of the evidence with their names."""
+    return [(name, plain(getattr(evidence, name))) for name in ATTRIBUTES if hasattr(evidence, name)]
 
 
 def lists_in(value):
     """Every list and dict in the value, as often as it stands there."""
+    if isinstance(value, Raised):
+        return lists_in(value.worths)[1:]
+    if isinstance(value, Evidence):
+        return lists_in([getattr(value, name) for name, _ in kept_by(value)])[1:]
     found = []
     if isinstance(value, (list, dict)):
         found.append(value)
@@ -163,6 +181,52 @@ def after_action(cluster, logs, action):
     """The logs after an action that is allowed."""
     place = cluster.homes[action[1]] if action[0] == "write" else action[2]
     return [log + [action[-1]] if replica == place else list(log) for replica, log in enumerate(logs)]
+
+
+def naive_run(cluster, start, trace):
+    """The logs after the trace, or None if it is no run."""
+    logs = start
+    for action in trace:
+        if action not in possible(cluster, logs):
+            return None
+        logs = after_action(cluster, logs, action)
+    return logs
+
+
+def every_action(cluster):
+    """All writes and pulls with replicas and entries of the cluster, and just beside them."""
+    entries = range(-1, cluster.size + 1)
+    replicas = range(-1, cluster.net.count + 1)
+    found = [("write", entry) for entry in entries]
+    return found + [("pull", x, y, entry) for x in replicas for y in replicas for entry in entries]
+
+
+def naive_carries(goal, source, reader, entry):
+    """Point 12, word by word."""
+    if entry not in goal[source] or entry not in goal[reader]:
+        return False
+    ahead = goal[source][:goal[source].index(entry)]
+    return all(other in goal[reader][:goal[reader].index(entry)] for other in ahead)
+
+
+def naive_roots(cluster, start, goal, entry):
+    """The roots as point 13 says, word by word."""
+    holders = [x for x, log in enumerate(start) if entry in log]
+    home = cluster.homes[entry]
+    return holders or [x for x in [home] if entry in goal[home]]
+
+
+def naive_distances(cluster, start, goal, entry):
+    """The carry distances, by going through all links again and again."""
+    distances = [None] * cluster.net.count
+    for root in naive_roots(cluster, start, goal, entry):
+        distances[root] = 0
+    for _ in range(cluster.net.count):
+        for source, reader in cluster.net.links:
+            if distances[source] is not None and naive_carries(goal, source, reader, entry):
+                if distances[reader] is None or distances[reader] > distances[source] + 1:
+                    distances[reader] = distances[source] + 1
+    return distances
 
 
 def all_reached(cluster, start):

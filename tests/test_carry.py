@@ -3,39 +3,12 @@
 import unittest
 
 from helpers import (
-    NOWHERE, PromiseCase, all_logs, all_reached, chances, cut_logs, some_cluster, some_logs, some_run,
+    NOWHERE, PromiseCase, all_logs, all_reached, chances, cut_logs, naive_carries, naive_distances, naive_roots,
+    some_cluster, some_logs, some_run,
 )
 from pullstore.carry import carried_to, carries, carry_distances, roots_of
 from pullstore.cluster import Cluster
 from pullstore.net import Net
-
-
-def naive_carries(goal, source, reader, entry):
-    """Point 12, word by word."""
-    if entry not in goal[source] or entry not in goal[reader]:
-        return False
-    ahead = goal[source][:goal[source].index(entry)]
-    return all(other in goal[reader][:goal[reader].index(entry)] for other in ahead)
-
-
-def naive_roots(cluster, start, goal, entry):
-    """Point 13, word by word."""
-    holders = [x for x, log in enumerate(start) if entry in log]
-    home = cluster.homes[entry]
-    return holders or [x for x in [home] if entry in goal[home]]
-
-
-def naive_distances(cluster, start, goal, entry):
-    """The distances, by going through all links again and again."""
-    distances = [None] * cluster.net.count
-    for root in naive_roots(cluster, start, goal, entry):
-        distances[root] = 0
-    for _ in range(cluster.net.count):
-        for source, reader in cluster.net.links:
-            if distances[source] is not None and naive_carries(goal, source, reader, entry):
-                if distances[reader] is None or distances[reader] > distances[source] + 1:
-                    distances[reader] = distances[source] + 1
-    return distances
 
 
 class CarriesTest(PromiseCase):

@@ -4,7 +4,7 @@ import itertools
 import unittest
 
 from helpers import (
-    HUGE, PromiseCase, after_action, chances, possible, some_cluster, some_logs, some_run,
+    HUGE, PromiseCase, chances, naive_run, some_cluster, some_logs, some_run,
 )
 from pullstore.causes import longest_chain, reorder, trace_causes, trace_layers
 from pullstore.cluster import Cluster
@@ -33,16 +33,6 @@ def naive_layers(causes):
     for found in causes:
         layers.append(max([layers[k] for k in found] + [0]) + 1)
     return layers
-
-
-def naive_run(cluster, start, trace):
-    """The logs after the trace, or None if it is no run."""
-    logs = start
-    for action in trace:
-        if action not in possible(cluster, logs):
-            return None
-        logs = after_action(cluster, logs, action)
-    return logs
 
 
 class CausesTest(PromiseCase):

@@ -1,11 +1,12 @@
 """The examples that the interface gives for the modules that are there."""
 
 from helpers import PromiseCase
+from pullstore.audit import audit, plan
 from pullstore.cluster import Cluster
-from pullstore.evidence import Barrier
 from pullstore.logs import ahead_of, missing_pairs, restrict
 from pullstore.net import Net
 from pullstore.paths import reach_within, tree_path, tree_side
+from pullstore.rounds import earliest_rounds
 from pullstore.run import allowed_actions, replay
 from pullstore.settle import settle
 
@@ -36,10 +37,17 @@ class ExamplesTest(PromiseCase):
         expected = [("pull", 0, 1, 0), ("pull", 1, 2, 0), ("pull", 2, 1, 1), ("pull", 1, 0, 1)]
         self.gives(expected, settle, cluster, logs)
 
-    def test_evidence(self):
-        # The example stands under audit; the barrier that it shows is judged here.
+    def test_audit(self):
+        expected = [("write", 0), ("write", 1), ("pull", 0, 1, 0), ("pull", 2, 1, 1),
+                    ("pull", 1, 0, 1), ("pull", 1, 2, 0)]
+        self.gives(expected, plan, Cluster(Net.line(3), [0, 2]), [[], [], []], [[0, 1], [0, 1], [1, 0]])
         cluster = Cluster(Net.line(2), [0, 0])
-        found = Barrier(1, [0])
+        found = audit(cluster, [[], []], [[0, 1], [1]])
         self.assertEqual([found.kind, found.entry, found.inside], ["barrier", 1, [0]])
         self.gives([(0, 1, 0)], found.bars, cluster, [[0, 1], [1]])
         self.gives(True, found.holds, cluster, [[], []], [[0, 1], [1]])
+
+    def test_rounds(self):
+        cluster = Cluster(Net.line(3), [0, 2])
+        goal = [[0, 1], [0, 1], [1, 0]]
+        self.gives([[1, 4], [2, 3], [1, 3]], earliest_rounds, cluster, [[], [], []], goal)

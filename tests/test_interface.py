@@ -53,6 +53,25 @@ FUNCTIONS = {
         "carry_distances": "(cluster, start, goal, entry)",
         "carried_to": "(cluster, start, goal, entry)",
     },
+    "audit": {
+        "audit": "(cluster, start, goal)",
+        "reachable": "(cluster, start, goal)",
+        "plan": "(cluster, start, goal)",
+        "fits": "(cluster, now, goal, action)",
+        "fitting_actions": "(cluster, now, goal)",
+    },
+    "rounds": {
+        "earliest_rounds": "(cluster, start, goal)",
+        "round_schedule": "(cluster, start, goal)",
+    },
+    "join": {
+        "join_logs": "(cluster, one, other)",
+    },
+    "treecheck": {
+        "link_fault": "(cluster, logs, source, reader)",
+        "tree_fault": "(cluster, logs)",
+        "pair_fault": "(cluster, logs)",
+    },
 }
 
 # For each module its classes, with their bases and with what stands in their own bodies.
@@ -92,6 +111,15 @@ CLASSES = {
         "Schedule": ("Evidence", {
             "__init__": "(self, trace)",
             "holds": "(self, cluster, start, goal)",
+        }),
+    },
+    "guide": {
+        "Guide": ("object", {
+            "__init__": "(self, cluster, start, goal)",
+            "next_action": "(self)",
+            "take": "(self, action)",
+            "undo": "(self)",
+            "taken": "(self)",
         }),
     },
 }
@@ -143,6 +171,8 @@ class InterfaceTest(unittest.TestCase):
     def test_the_properties(self):
         self.assertIsInstance(vars(module("net").Net)["links"], property)
         self.assertIsInstance(vars(module("cluster").Cluster)["homes"], property)
+        for name in ("logs", "left"):
+            self.assertIsInstance(vars(module("guide").Guide)[name], property)
 
     def test_the_class_values(self):
         self.assertEqual(vars(module("net").Net)["MOST"], 24)

@@ -4,7 +4,8 @@ import inspect
 import unittest
 
 from helpers import (
-    HUGE, NOWHERE, PromiseCase, after_action, chances, offered, possible, some_cluster, some_logs, some_run,
+    HUGE, NOWHERE, PromiseCase, after_action, chances, every_action, offered, possible, some_cluster, some_logs,
+    some_run,
 )
 from pullstore.cluster import Cluster
 from pullstore.errors import BadTrace, InvalidLogs, UnknownRule
@@ -13,14 +14,6 @@ from pullstore.run import ANY, FIRST, allowed_actions, apply_action, each_state,
 
 RULES = [FIRST, ANY]
 WRONG_RULES = ["", "First", "last", "first "]
-
-
-def every_action(cluster):
-    """All writes and pulls with replicas and entries of the cluster, and just beside them."""
-    entries = range(-1, cluster.size + 1)
-    replicas = range(-1, cluster.net.count + 1)
-    found = [("write", entry) for entry in entries]
-    return found + [("pull", x, y, entry) for x in replicas for y in replicas for entry in entries]
 
 
 class OffersTest(PromiseCase):

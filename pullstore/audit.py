@@ -33,7 +33,7 @@ def plan(cluster, start, goal):
 
 
 def check_reachable(cluster, start, goal):
-    """Raises Unreachable if no run leads from the start to the goal."""
+    """Raises Unreachable if no run leads from the start to the goal, which are checked already."""
     obstacle = find_obstacle(cluster, start, goal)
     if obstacle is not None:
         raise Unreachable(obstacle)

@@ -1,7 +1,7 @@
 """The logs of a cluster: who holds what, and which logs are prefixes of which."""
 
 from pullstore.cluster import check_entry
-from pullstore.errors import InvalidLogs, NotHeld, NotPrefix
+from pullstore.errors import InvalidLogs, NotFull, NotHeld, NotPrefix
 from pullstore.net import check_replica
 
 
@@ -61,6 +61,13 @@ def is_unwritten(logs, entry):
 def is_full(cluster, logs):
     """Whether every replica holds every entry."""
     return all(len(log) == cluster.size for log in check_logs(cluster, logs))
+
+
+def check_full(cluster, logs):
+    """Raises NotFull if some replica lacks an entry."""
+    for replica, log in enumerate(logs):
+        if len(log) < cluster.size:
+            raise NotFull(replica)
 
 
 def is_prefix(cluster, start, goal):

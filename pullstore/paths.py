@@ -1,6 +1,6 @@
 """What can be reached on a net, the kinds of nets, and the paths of trees."""
 
-from pullstore.errors import NotTree
+from pullstore.errors import NotComplete, NotStrong, NotTree
 from pullstore.net import Net, check_link, check_replica
 
 
@@ -55,6 +55,18 @@ def is_complete(net):
     return net.links == Net.complete(net.count).links
 
 
+def check_strong(net):
+    """Raises NotStrong if the net is not strong."""
+    if not is_strong(net):
+        raise NotStrong()
+
+
+def check_complete(net):
+    """Raises NotComplete if the net is not complete."""
+    if not is_complete(net):
+        raise NotComplete()
+
+
 def check_tree(net):
     """Raises NotTree if the net is not a tree."""
     if not is_tree(net):
@@ -66,7 +78,18 @@ def tree_path(net, first, last):
     check_tree(net)
     check_replica(net, first)
     check_replica(net, last)
-    # For each replica the next one on its path to the last.
+    toward = steps_toward(net, last)
+    path = [first]
+    while path[-1] != last:
+        path.append(toward[path[-1]])
+    return path
+
+
+def steps_toward(net, last):
+    """For each replica of a tree the next one on its path to the last, which has itself.
+
+    Each replica comes behind the next one.
+    """
     toward = {last: last}
     waiting = [last]
     while waiting:
@@ -75,10 +98,7 @@ def tree_path(net, first, last):
             if neighbour not in toward:
                 toward[neighbour] = replica
                 waiting.append(neighbour)
-    path = [first]
-    while path[-1] != last:
-        path.append(toward[path[-1]])
-    return path
+    return toward
 
 
 def tree_distance(net, first, last):
@@ -92,3 +112,8 @@ def tree_side(net, source, reader):
     check_link(net, source, reader)
     # Whoever is nearer to the source is reached from it without passing the reader.
     return reach_within(net, [source], [replica for replica in range(net.count) if replica != reader])
+
+
+def link_sides(net):
+    """For each link of a tree the replicas on the source's side."""
+    return {(source, reader): tree_side(net, source, reader) for source, reader in net.links}

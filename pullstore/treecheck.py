@@ -1,9 +1,9 @@
 """Recognizing reachable logs, link by link on trees and pair by pair on any net."""
 
-from pullstore.audit import reachable
+from pullstore.audit import check_reachable, reachable
 from pullstore.cluster import entry_pairs
 from pullstore.evidence import first_blocker
-from pullstore.logs import check_logs, empty_logs, restrict
+from pullstore.logs import check_full, check_logs, empty_logs, restrict
 from pullstore.net import check_link
 from pullstore.paths import check_tree, tree_side
 
@@ -49,3 +49,12 @@ def pair_fault(cluster, logs):
         if not reachable(cluster, empty, restrict(cluster, held, *kept)):
             return kept
     return None
+
+
+def check_full_on_tree(cluster, logs):
+    """A copy of the logs, which must be full and reachable logs on a tree."""
+    check_tree(cluster.net)
+    held = check_logs(cluster, logs)
+    check_full(cluster, held)
+    check_reachable(cluster, empty_logs(cluster), held)
+    return held

@@ -151,6 +151,85 @@ def all_trees(count):
             yield list(chosen)
 
 
+# Nets that are no trees, although each has something of one.
+NO_TREES = [
+    Net(2, [(0, 1)]), Net(3, []), Net.ring(3), Net.complete(3), Net(3, [(0, 1), (1, 0), (1, 2)]),
+    Net.both_ways(4, [(0, 1), (1, 2), (2, 0)]), Net(3, [(0, 1), (1, 2), (2, 0), (1, 0)]),
+]
+
+
+# Nets that are not strong.
+NOT_STRONG = [
+    Net(2, []), Net(2, [(0, 1)]), Net(2, [(1, 0)]), Net(3, [(0, 1), (1, 2)]), Net(3, [(0, 1), (1, 0), (1, 2)]),
+    Net(3, [(0, 1), (1, 0), (2, 1)]), Net.both_ways(4, [(0, 1), (2, 3)]),
+]
+
+
+def naive_strong(net):
+    """Whether every replica can be reached from every other one, as point 4 says."""
+    everyone = list(range(net.count))
+    return all(reached_from(net.links, [x]) == everyone for x in everyone)
+
+
+def strong_worlds(sizes):
+    """Clusters on all strong nets, with homes in ascending order: pairs of replicas and entries."""
+    for count, size in sizes:
+        for net in all_nets(count):
+            if naive_strong(net):
+                for homes in itertools.combinations_with_replacement(range(count), size):
+                    yield Cluster(net, list(homes))
+
+
+def every_choice(cluster):
+    """All choices of the cluster."""
+    for choices in itertools.product(range(len(cluster.homes)), repeat=cluster.net.count):
+        yield list(choices)
+
+
+def wrong_choices(count, size):
+    """Lists that are no choices for so many replicas and entries, with the error that tells so."""
+    fine = [size - 1] * count
+    for choices in ([], fine[1:], fine + [0], fine + [HUGE], [size] * (count + 1)):
+        yield choices, "InvalidChoices(replica=None)"
+    for wrong in [size, -size - 1, *NOWHERE]:
+        for replica in range(count):
+            choices = list(fine)
+            choices[replica] = wrong
+            yield choices, f"InvalidChoices(replica={replica})"
+            choices[-1] = -1
+            yield choices, f"InvalidChoices(replica={replica})"
+
+
+def tree_worlds(sizes):
+    """Clusters on all trees, in every numbering, with every list of homes: pairs of replicas and entries."""
+    for count, size in sizes:
+        for pairs in all_trees(count):
+            for homes in itertools.product(range(count), repeat=size):
+                yield Cluster(Net.both_ways(count, pairs), list(homes))
+
+
+def some_tree(chance, most, size):
+    """A cluster of so many entries on a tree of at most so many replicas."""
+    count = chance.randint(1, most)
+    numbers = chance.sample(range(count), count)
+    pairs = [(numbers[chance.randrange(x)], numbers[x]) for x in range(1, count)]
+    return Cluster(Net.both_ways(count, pairs), [chance.randrange(count) for _ in range(size)])
+
+
+def side_of(net, source, reader):
+    """The replicas that are nearer to the source than to the reader, on a tree."""
+    return reached_from([link for link in net.links if reader not in link], [source])
+
+
+def path_of(net, first, last):
+    """The path on a tree: at each step the neighbour on whose side the last one is."""
+    path = [first]
+    while path[-1] != last:
+        here = path[-1]
+        path.append(next(y for x, y in net.links if x == here and last in side_of(net, y, here)))
+    return path
+
+
 def reached_from(links, starts):
     """The replicas that are reached from the starts along the links, by repeating one step."""
     found = set(starts)
@@ -229,18 +308,29 @@ def naive_distances(cluster, start, goal, entry):
     return distances
 
 
-def all_reached(cluster, start):
-    """The reprs of all logs that some run from the start leads to."""
-    seen = {repr(start)}
+def reached_logs(cluster, start):
+    """All logs that some run from the start leads to, by a search through all runs."""
+    seen = {repr(start): start}
     waiting = [start]
     while waiting:
         logs = waiting.pop()
         for action in possible(cluster, logs):
             later = after_action(cluster, logs, action)
             if repr(later) not in seen:
-                seen.add(repr(later))
+                seen[repr(later)] = later
                 waiting.append(later)
-    return seen
+    return list(seen.values())
+
+
+def all_reached(cluster, start):
+    """The reprs of all logs that some run from the start leads to."""
+    return {repr(logs) for logs in reached_logs(cluster, start)}
+
+
+def full_logs(cluster):
+    """All full logs that some run from the empty logs leads to."""
+    reached = reached_logs(cluster, [[] for _ in range(cluster.net.count)])
+    return [logs for logs in reached if all(len(log) == len(cluster.homes) for log in logs)]
 
 
 def all_logs(cluster):

@@ -3,6 +3,8 @@
 from helpers import PromiseCase
 from pullstore.audit import audit, plan
 from pullstore.cluster import Cluster
+from pullstore.crossing import logs_of_table, order_table
+from pullstore.lasts import count_lasts, each_lasts, logs_with_lasts
 from pullstore.logs import ahead_of, missing_pairs, restrict
 from pullstore.net import Net
 from pullstore.paths import reach_within, tree_path, tree_side
@@ -51,3 +53,16 @@ class ExamplesTest(PromiseCase):
         cluster = Cluster(Net.line(3), [0, 2])
         goal = [[0, 1], [0, 1], [1, 0]]
         self.gives([[1, 4], [2, 3], [1, 3]], earliest_rounds, cluster, [[], [], []], goal)
+
+    def test_crossing(self):
+        self.gives({(0, 1): (1, 2)}, order_table, Cluster(Net.line(3), [0, 2]), [[0, 1], [0, 1], [1, 0]])
+        table = {(0, 1): "ahead", (0, 2): "behind", (1, 2): (0, 1)}
+        error = "CyclicTable(replica=0, triple=(0, 1, 2))"
+        self.fails(error, logs_of_table, Cluster(Net.line(2), [0, 0, 1]), table)
+
+    def test_lasts(self):
+        cluster = Cluster(Net.line(3), [0, 2])
+        self.gives([[0, 0, 0], [1, 1, 1], [1, 0, 0], [1, 1, 0]], each_lasts, cluster)
+        self.gives(4, count_lasts, cluster)
+        cluster = Cluster(Net.complete(3), [0, 1, 2, 0])
+        self.gives([[3, 0, 2, 1], [3, 1, 0, 2], [3, 2, 1, 0]], logs_with_lasts, cluster, [1, 2, 0])

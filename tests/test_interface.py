@@ -72,6 +72,35 @@ FUNCTIONS = {
         "tree_fault": "(cluster, logs)",
         "pair_fault": "(cluster, logs)",
     },
+    "crossing": {
+        "pair_codes": "(cluster, first, second)",
+        "order_table": "(cluster, logs)",
+        "logs_of_table": "(cluster, table)",
+    },
+    "infer": {
+        "least_logs": "(cluster, replica, log)",
+        "fewest_actions": "(cluster, replica, log)",
+    },
+    "finish": {
+        "finish": "(cluster, logs)",
+        "finished_logs": "(cluster, logs)",
+    },
+    "lasts": {
+        "last_entries": "(cluster, logs)",
+        "split_link": "(cluster, logs)",
+        "two_lasts_fault": "(cluster, choices)",
+        "tree_lasts_fault": "(cluster, choices)",
+        "complete_lasts_fault": "(cluster, choices)",
+        "logs_with_lasts": "(cluster, choices)",
+        "each_lasts": "(cluster)",
+        "count_lasts": "(cluster)",
+    },
+    "firsts": {
+        "first_entries": "(cluster, logs)",
+        "firsts_fault": "(cluster, choices)",
+        "logs_with_firsts": "(cluster, choices)",
+        "count_firsts": "(cluster)",
+    },
 }
 
 # For each module its classes, with their bases and with what stands in their own bodies.
@@ -181,8 +210,9 @@ class InterfaceTest(unittest.TestCase):
     def test_the_rules(self):
         self.assertEqual([module("run").FIRST, module("run").ANY], ["first", "any"])
 
-    def test_each_state_is_a_generator(self):
+    def test_the_generators(self):
         self.assertTrue(inspect.isgeneratorfunction(module("run").each_state))
+        self.assertTrue(inspect.isgeneratorfunction(module("lasts").each_lasts))
 
     def test_the_rule_is_passed_by_keyword_only(self):
         run = module("run")

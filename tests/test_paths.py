@@ -3,7 +3,7 @@
 import itertools
 import unittest
 
-from helpers import HUGE, PromiseCase, all_nets, all_trees, chances, reached_from, some_net
+from helpers import HUGE, PromiseCase, all_nets, all_trees, chances, naive_strong, reached_from, some_net
 from pullstore.net import Net
 from pullstore.paths import (
     is_complete, is_ring, is_strong, is_tree, is_two_way, reach_within, tree_distance, tree_path, tree_side,
@@ -16,13 +16,8 @@ def two_way(net):
     return all((y, x) in net.links for x, y in net.links)
 
 
-def strong(net):
-    everyone = list(range(net.count))
-    return all(reached_from(net.links, [x]) == everyone for x in everyone)
-
-
 def tree(net):
-    return two_way(net) and strong(net) and len(net.links) == 2 * (net.count - 1)
+    return two_way(net) and naive_strong(net) and len(net.links) == 2 * (net.count - 1)
 
 
 def ring(net):
@@ -100,7 +95,7 @@ class ReachTest(PromiseCase):
 class KindsTest(PromiseCase):
     def check(self, net):
         self.gives(two_way(net), is_two_way, net)
-        self.gives(strong(net), is_strong, net)
+        self.gives(naive_strong(net), is_strong, net)
         self.gives(tree(net), is_tree, net)
         self.gives(ring(net), is_ring, net)
         self.gives(complete(net), is_complete, net)

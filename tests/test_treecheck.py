@@ -4,8 +4,8 @@ import itertools
 import unittest
 
 from helpers import (
-    NOWHERE, PromiseCase, all_logs, all_nets, all_reached, all_trees, chances, naive_carries, reached_from,
-    some_cluster, some_logs, some_run,
+    NO_TREES, NOWHERE, PromiseCase, all_logs, all_nets, all_reached, all_trees, chances, naive_carries,
+    reached_from, side_of, some_cluster, some_logs, some_run, some_tree,
 )
 from pullstore.cluster import Cluster
 from pullstore.logs import restrict
@@ -13,16 +13,10 @@ from pullstore.net import Net
 from pullstore.settle import settled_logs
 from pullstore.treecheck import link_fault, pair_fault, tree_fault
 
-# Nets that are no trees, although each has something of one.
-NO_TREES = [
-    Net(2, [(0, 1)]), Net(3, []), Net.ring(3), Net.complete(3), Net(3, [(0, 1), (1, 0), (1, 2)]),
-    Net.both_ways(4, [(0, 1), (1, 2), (2, 0)]), Net(3, [(0, 1), (1, 2), (2, 0), (1, 0)]),
-]
-
 
 def naive_link_fault(cluster, logs, source, reader):
     """The fault of a link as point 20 says, word by word."""
-    side = reached_from([link for link in cluster.net.links if reader not in link], [source])
+    side = side_of(cluster.net, source, reader)
     for entry in logs[reader]:
         if cluster.homes[entry] not in side:
             continue
@@ -132,14 +126,12 @@ class LinkFaultTest(PromiseCase):
 
     def test_against_the_words_of_the_document(self):
         for chance in chances(200, "link fault"):
-            count = chance.randint(1, 6)
-            pairs = [(chance.randrange(x), x) for x in range(1, count)]
-            cluster = Cluster(Net.both_ways(count, pairs), [chance.randrange(count) for _ in range(5)])
+            cluster = some_tree(chance, 6, 5)
             logs = some_logs(chance, cluster)
             if chance.random() < 0.7:
-                _, logs = some_run(chance, cluster, [[] for _ in range(count)], 25)
+                _, logs = some_run(chance, cluster, [[] for _ in logs], 25)
             if chance.random() < 0.7:
-                chance.shuffle(logs[chance.randrange(count)])
+                chance.shuffle(chance.choice(logs))
             for source, reader in cluster.net.links:
                 expected = naive_link_fault(cluster, logs, source, reader)
                 self.gives(expected, link_fault, cluster, logs, source, reader)

@@ -10,6 +10,7 @@ import random
 import unittest
 
 from pullstore.cluster import Cluster
+from pullstore.diskstore import DiskStore
 from pullstore.errors import StoreError, Unreachable
 from pullstore.evidence import Evidence
 from pullstore.guide import Guide
@@ -46,6 +47,9 @@ def plain(value):
         return ("Cluster", plain(value.net), value.size, value.homes)
     if isinstance(value, Guide):
         return ("Guide", value.logs, value.left, value.next_action(), value.taken())
+    if isinstance(value, DiskStore):
+        disks = [(value.is_up(x), value.cells(x)) for x in range(len(value.logs))]
+        return ("DiskStore", value.logs, value.saved, disks, value.history())
     if isinstance(value, list):
         return [plain(item) for item in value]
     if isinstance(value, tuple):
@@ -390,3 +394,95 @@ def cut_logs(chance, logs):
 def chances(many, seed):
     """So many sources of chance, always the same ones."""
     return [random.Random(f"{seed} {number}") for number in range(many)]
+
+
+class PlainDisks:
+    """A disk store as points 29 and 30 describe it, word by word."""
+
+    def __init__(self, cluster, start):
+        self.cluster = cluster
+        # The log in memory, or None while the replica is down.
+        self.memory = [list(log) for log in start]
+        self.disks = [naive_frames(log) for log in start]
+
+    def copy(self):
+        other = PlainDisks(self.cluster, [[] for _ in self.memory])
+        other.memory = [None if log is None else list(log) for log in self.memory]
+        other.disks = [list(cells) for cells in self.disks]
+        return other
+
+    def saved(self):
+        return [naive_scan(cells) for cells in self.disks]
+
+    def ups(self):
+        return [log is not None for log in self.memory]
+
+    def logs(self):
+        return [saved if log is None else list(log) for log, saved in zip(self.memory, self.saved())]
+
+    def possible(self):
+        """All allowed actions."""
+        up = [x for x, log in enumerate(self.memory) if log is not None]
+        known = {entry for log in self.logs() for entry in log}
+        saved = self.saved()
+        found = [("write", entry) for entry, home in enumerate(self.cluster.homes) if home in up and entry not in known]
+        for source, reader in self.cluster.net.links:
+            if source in up and reader in up:
+                news = [entry for entry in saved[source] if entry not in self.memory[reader]]
+                found.extend(("pull", source, reader, entry) for entry in news[:1])
+        for x in up:
+            left = len(naive_frames(self.memory[x])) - len(self.disks[x])
+            found.extend(("save", x, many) for many in range(1, left + 1))
+        found.extend(("crash", x) for x in up)
+        return found + [("recover", x) for x, log in enumerate(self.memory) if log is None]
+
+    def take(self, action):
+        """Takes an action that is allowed."""
+        if action[0] == "write":
+            self.memory[self.cluster.homes[action[1]]].append(action[1])
+        elif action[0] == "pull":
+            self.memory[action[2]].append(action[3])
+        elif action[0] == "save":
+            at = len(self.disks[action[1]])
+            self.disks[action[1]] += naive_frames(self.memory[action[1]])[at:at + action[2]]
+        elif action[0] == "crash":
+            self.memory[action[1]] = None
+        else:
+            self.memory[action[1]] = self.saved()[action[1]]
+            self.disks[action[1]] = self.disks[action[1]][:3 * len(self.memory[action[1]])]
+
+
+def naive_frames(log):
+    """The frames of the log, as point 29 says."""
+    return [cell for k, entry in enumerate(log) for cell in (k, entry, -1 - entry)]
+
+
+def naive_scan(cells):
+    """The entries that a scan reads: as many as possible whose frames the disk begins with."""
+    found = []
+    for entry in cells[1::3]:
+        if entry < 0 or naive_frames(found + [entry]) != cells[:3 * len(found) + 3]:
+            break
+        found.append(entry)
+    return found
+
+
+def every_disk_action(cluster):
+    """All actions of disk stores with replicas and entries of the cluster, and just beside them."""
+    replicas = range(-1, cluster.net.count + 1)
+    found = every_action(cluster)
+    found += [("save", x, cells) for x in replicas for cells in range(-1, 3 * cluster.size + 2)]
+    return found + [(word, x) for word in ("crash", "recover") for x in replicas]
+
+
+def some_history(chance, cluster, start, most):
+    """A disk run of at most so many actions from the start, and the disk store after it."""
+    disks = PlainDisks(cluster, start)
+    history = []
+    while len(history) < most:
+        actions = disks.possible()
+        kind = chance.choice(["write", "pull", "pull", "save", "save", "save", "crash", "recover"])
+        action = chance.choice([one for one in actions if one[0] == kind] or actions)
+        history.append(action)
+        disks.take(action)
+    return history, disks

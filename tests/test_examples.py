@@ -4,6 +4,7 @@ from helpers import PromiseCase
 from pullstore.audit import audit, plan
 from pullstore.cluster import Cluster
 from pullstore.crossing import logs_of_table, order_table
+from pullstore.device import frames, mend, scan
 from pullstore.lasts import count_lasts, each_lasts, logs_with_lasts
 from pullstore.logs import ahead_of, missing_pairs, restrict
 from pullstore.net import Net
@@ -11,6 +12,7 @@ from pullstore.paths import reach_within, tree_path, tree_side
 from pullstore.rounds import earliest_rounds
 from pullstore.run import allowed_actions, replay
 from pullstore.settle import settle
+from pullstore.survive import run_disk, surviving
 
 
 class ExamplesTest(PromiseCase):
@@ -66,3 +68,18 @@ class ExamplesTest(PromiseCase):
         self.gives(4, count_lasts, cluster)
         cluster = Cluster(Net.complete(3), [0, 1, 2, 0])
         self.gives([[3, 0, 2, 1], [3, 1, 0, 2], [3, 2, 1, 0]], logs_with_lasts, cluster, [1, 2, 0])
+
+    def test_device(self):
+        cells = self.ask(frames, [4, 7])
+        self.assertEqual(cells, [0, 4, -5, 1, 7, -8])
+        self.gives(([4], 3), scan, cells[:5])
+        self.gives([0, 4, -5], mend, cells[:5] + [0])
+
+    def test_survive(self):
+        cluster = Cluster(Net.line(2), [0, 0])
+        history = [("write", 0), ("save", 0, 3), ("pull", 0, 1, 0), ("write", 1), ("save", 0, 2), ("crash", 0)]
+        store = run_disk(cluster, [[], []], history)
+        self.gives([[0], [0]], lambda: store.logs)
+        self.gives([0, 0, -1, 1, 1], store.cells, 0)
+        self.gives(False, store.is_up, 0)
+        self.gives([("write", 0), ("pull", 0, 1, 0)], surviving, cluster, [[], []], history)

@@ -101,6 +101,27 @@ FUNCTIONS = {
         "logs_with_firsts": "(cluster, choices)",
         "count_firsts": "(cluster)",
     },
+    "readings": {
+        "read_entry": "(cluster, logs, key_of, replica, key)",
+        "split_key": "(cluster, logs, key_of, key)",
+        "split_keys": "(cluster, logs, key_of)",
+    },
+    "device": {
+        "frames": "(log)",
+        "scan": "(cells)",
+        "mend": "(cells)",
+    },
+    "survive": {
+        "run_disk": "(cluster, start, history)",
+        "surviving": "(cluster, start, history)",
+    },
+    "depths": {
+        "depths_of": "(cluster, logs)",
+        "depths_fault": "(cluster, depths)",
+        "count_ring": "(cluster)",
+        "each_depths": "(cluster)",
+        "depth_run": "(cluster, depths)",
+    },
 }
 
 # For each module its classes, with their bases and with what stands in their own bodies.
@@ -149,6 +170,17 @@ CLASSES = {
             "take": "(self, action)",
             "undo": "(self)",
             "taken": "(self)",
+        }),
+    },
+    "diskstore": {
+        "DiskStore": ("object", {
+            "__init__": "(self, cluster, start)",
+            "is_up": "(self, replica)",
+            "cells": "(self, replica)",
+            "allows": "(self, action)",
+            "do": "(self, action)",
+            "history": "(self)",
+            "fork": "(self)",
         }),
     },
 }
@@ -202,6 +234,8 @@ class InterfaceTest(unittest.TestCase):
         self.assertIsInstance(vars(module("cluster").Cluster)["homes"], property)
         for name in ("logs", "left"):
             self.assertIsInstance(vars(module("guide").Guide)[name], property)
+        for name in ("logs", "saved"):
+            self.assertIsInstance(vars(module("diskstore").DiskStore)[name], property)
 
     def test_the_class_values(self):
         self.assertEqual(vars(module("net").Net)["MOST"], 24)
@@ -213,6 +247,7 @@ class InterfaceTest(unittest.TestCase):
     def test_the_generators(self):
         self.assertTrue(inspect.isgeneratorfunction(module("run").each_state))
         self.assertTrue(inspect.isgeneratorfunction(module("lasts").each_lasts))
+        self.assertTrue(inspect.isgeneratorfunction(module("depths").each_depths))
 
     def test_the_rule_is_passed_by_keyword_only(self):
         run = module("run")

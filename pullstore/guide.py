@@ -2,7 +2,7 @@
 
 from pullstore.audit import check_reachable, fits, next_planned
 from pullstore.errors import NotFitting, NothingToUndo
-from pullstore.logs import check_logs
+from pullstore.logs import check_logs, count_missing
 from pullstore.run import entry_of, place_of
 
 
@@ -27,7 +27,7 @@ class Guide:
     @property
     def left(self):
         """The number of missing pairs from the current logs to the goal."""
-        return sum([len(log) for log in self._goal]) - sum([len(log) for log in self._logs])
+        return count_missing(self._logs, self._goal)
 
     def next_action(self):
         """The first action of the plan from the current logs, or None if the goal is reached."""

@@ -109,6 +109,11 @@ def missing_pairs(cluster, start, goal):
     return pairs
 
 
+def count_missing(start, goal):
+    """The number of missing pairs; the start is a prefix of the goal."""
+    return sum([len(log) for log in goal]) - sum([len(log) for log in start])
+
+
 def restrict(cluster, logs, *kept):
     """The logs without all entries that are not kept."""
     held = check_logs(cluster, logs)

@@ -1,6 +1,6 @@
 """What can be reached on a net, the kinds of nets, and the paths of trees."""
 
-from pullstore.errors import NotComplete, NotStrong, NotTree
+from pullstore.errors import NotComplete, NotRing, NotStrong, NotTree
 from pullstore.net import Net, check_link, check_replica
 
 
@@ -59,6 +59,12 @@ def check_strong(net):
     """Raises NotStrong if the net is not strong."""
     if not is_strong(net):
         raise NotStrong()
+
+
+def check_ring(net):
+    """Raises NotRing if the net is not a ring."""
+    if not is_ring(net):
+        raise NotRing()
 
 
 def check_complete(net):

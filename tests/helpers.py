@@ -10,9 +10,10 @@ import random
 import unittest
 
 from pullstore.cluster import Cluster
+from pullstore.desk import Desk
 from pullstore.diskstore import DiskStore
-from pullstore.errors import StoreError, Unreachable
-from pullstore.evidence import Evidence
+from pullstore.errors import NothingToRedo, StoreError, Unreachable
+from pullstore.evidence import Barrier, Evidence, PrefixFault, Schedule
 from pullstore.guide import Guide
 from pullstore.net import Net
 
@@ -50,6 +51,8 @@ def plain(value):
     if isinstance(value, DiskStore):
         disks = [(value.is_up(x), value.cells(x)) for x in range(len(value.logs))]
         return ("DiskStore", value.logs, value.saved, disks, value.history())
+    if isinstance(value, Desk):
+        return ("Desk", value.logs, value.goal, value.left, value.taken(), undone_by(value), value.report())
     if isinstance(value, list):
         return [plain(item) for item in value]
     if isinstance(value, tuple):
@@ -59,6 +62,17 @@ def plain(value):
     if isinstance(value, Evidence):
         return (value.__class__.__name__, *kept_by(value))
     return value
+
+
+def undone_by(desk):
+    """The list of undone actions: what a fork can redo, backwards."""
+    other = desk.fork()
+    found = []
+    while True:
+        try:
+            found.append(other.redo())
+        except NothingToRedo:
+            return found[::-1]
 
 
 def kept_by(evidence):
@@ -159,6 +173,14 @@ def all_trees(count):
 NO_TREES = [
     Net(2, [(0, 1)]), Net(3, []), Net.ring(3), Net.complete(3), Net(3, [(0, 1), (1, 0), (1, 2)]),
     Net.both_ways(4, [(0, 1), (1, 2), (2, 0)]), Net(3, [(0, 1), (1, 2), (2, 0), (1, 0)]),
+]
+
+
+# Nets that are no rings, although each has something of one.
+NO_RINGS = [
+    Net(1, []), Net.ring(1), Net(2, []), Net(2, [(0, 1)]), Net.line(3), Net.complete(3), Net(3, [(1, 0), (2, 1), (0, 2)]),
+    Net(3, [(0, 1), (1, 2)]), Net(3, [(0, 1), (1, 2), (2, 0), (1, 0)]), Net.both_ways(4, [(0, 1), (2, 3)]),
+    Net(4, [(0, 2), (2, 1), (1, 3), (3, 0)]), Net(4, [(0, 1), (1, 2), (2, 0), (3, 0)]),
 ]
 
 
@@ -310,6 +332,52 @@ def naive_distances(cluster, start, goal, entry):
                 if distances[reader] is None or distances[reader] > distances[source] + 1:
                     distances[reader] = distances[source] + 1
     return distances
+
+
+def begins(start, goal):
+    """Whether the start is a prefix of the goal."""
+    return all(log == goal[x][:len(log)] for x, log in enumerate(start))
+
+
+def naive_plan(cluster, start, goal):
+    """Point 15, word by word, for a goal that is reachable."""
+    tuples = []
+    for x, log in enumerate(goal):
+        for entry in log[len(start[x]):]:
+            distance = naive_distances(cluster, start, goal, entry)[x]
+            tuples.append((log.index(entry), distance, x, entry))
+    trace = []
+    for _, distance, x, entry in sorted(tuples):
+        if distance == 0:
+            trace.append(("write", entry))
+        else:
+            distances = naive_distances(cluster, start, goal, entry)
+            sources = [y for y, z in cluster.net.links if z == x and naive_carries(goal, y, x, entry)]
+            trace.append(("pull", min(y for y in sources if distances[y] == distance - 1), x, entry))
+    return trace
+
+
+def naive_audit(cluster, start, goal):
+    """Point 16, word by word."""
+    for x, log in enumerate(start):
+        if log != goal[x][:len(log)]:
+            return PrefixFault(x)
+    for entry in range(cluster.size):
+        distances = naive_distances(cluster, start, goal, entry)
+        if any(entry in log and distances[x] is None for x, log in enumerate(goal)):
+            return Barrier(entry, [x for x, distance in enumerate(distances) if distance is not None])
+    return Schedule(naive_plan(cluster, start, goal))
+
+
+def naive_reachable(cluster, logs):
+    """Whether the logs are reachable, as point 14 says: each entry is carried to all its holders."""
+    for entry, home in enumerate(cluster.homes):
+        holders = [x for x, log in enumerate(logs) if entry in log]
+        links = [(x, y) for x, y in cluster.net.links if naive_carries(logs, x, y, entry)]
+        roots = [home] if home in holders else []
+        if reached_from(links, roots) != holders:
+            return False
+    return True
 
 
 def reached_logs(cluster, start):

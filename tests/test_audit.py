@@ -3,48 +3,14 @@
 import unittest
 
 from helpers import (
-    HUGE, NOWHERE, PromiseCase, after_action, all_logs, all_nets, all_reached, chances, cut_logs, every_action,
-    naive_carries, naive_distances, naive_run, plain, possible, some_cluster, some_logs, some_run, unreachable,
+    HUGE, NOWHERE, PromiseCase, after_action, all_logs, all_nets, all_reached, begins, chances, cut_logs, every_action,
+    naive_audit, naive_run, plain, possible, some_cluster, some_logs, some_run, unreachable,
 )
 from pullstore.audit import audit, fits, fitting_actions, plan, reachable
 from pullstore.cluster import Cluster
 from pullstore.evidence import Barrier, PrefixFault, Schedule
 from pullstore.net import Net
 from pullstore.settle import settled_logs
-
-
-def begins(start, goal):
-    return all(log == goal[x][:len(log)] for x, log in enumerate(start))
-
-
-def naive_plan(cluster, start, goal):
-    """Point 15, word by word, for a goal that is reachable."""
-    tuples = []
-    for x, log in enumerate(goal):
-        for entry in log[len(start[x]):]:
-            distance = naive_distances(cluster, start, goal, entry)[x]
-            tuples.append((log.index(entry), distance, x, entry))
-    trace = []
-    for _, distance, x, entry in sorted(tuples):
-        if distance == 0:
-            trace.append(("write", entry))
-        else:
-            distances = naive_distances(cluster, start, goal, entry)
-            sources = [y for y, z in cluster.net.links if z == x and naive_carries(goal, y, x, entry)]
-            trace.append(("pull", min(y for y in sources if distances[y] == distance - 1), x, entry))
-    return trace
-
-
-def naive_audit(cluster, start, goal):
-    """Point 16, word by word."""
-    for x, log in enumerate(start):
-        if log != goal[x][:len(log)]:
-            return PrefixFault(x)
-    for entry in range(cluster.size):
-        distances = naive_distances(cluster, start, goal, entry)
-        if any(entry in log and distances[x] is None for x, log in enumerate(goal)):
-            return Barrier(entry, [x for x, distance in enumerate(distances) if distance is not None])
-    return Schedule(naive_plan(cluster, start, goal))
 
 
 class AuditCase(PromiseCase):

@@ -4,11 +4,15 @@ from helpers import PromiseCase
 from pullstore.audit import audit, plan
 from pullstore.cluster import Cluster
 from pullstore.crossing import logs_of_table, order_table
+from pullstore.depths import count_ring, each_depths
+from pullstore.desk import Desk
 from pullstore.device import frames, mend, scan
+from pullstore.free import free_fault, free_plan
 from pullstore.lasts import count_lasts, each_lasts, logs_with_lasts
 from pullstore.logs import ahead_of, missing_pairs, restrict
 from pullstore.net import Net
 from pullstore.paths import reach_within, tree_path, tree_side
+from pullstore.ring import ring_logs
 from pullstore.rounds import earliest_rounds
 from pullstore.run import allowed_actions, replay
 from pullstore.settle import settle
@@ -83,3 +87,24 @@ class ExamplesTest(PromiseCase):
         self.gives([0, 0, -1, 1, 1], store.cells, 0)
         self.gives(False, store.is_up, 0)
         self.gives([("write", 0), ("pull", 0, 1, 0)], surviving, cluster, [[], []], history)
+
+    def test_ring(self):
+        cluster = Cluster(Net.ring(2), [0, 1])
+        self.gives([[0, 0], [0, 1], [1, 0]], each_depths, cluster)
+        self.gives(3, count_ring, cluster)
+        self.gives([[0, 1], [1, 0]], ring_logs, cluster, [0, 0])
+        self.gives([[1, 0], [1, 0]], ring_logs, cluster, [1, 0])
+
+    def test_free(self):
+        cluster = Cluster(Net.line(2), [0, 0])
+        self.gives(None, free_fault, cluster, [[0, 1], [1]])
+        self.gives([("write", 0), ("write", 1), ("pull", 0, 1, 1)], free_plan, cluster, [[0, 1], [1]])
+
+    def test_desk(self):
+        desk = Desk(Cluster(Net.line(2), [0, 1]), ["a", "a"], [5, -7])
+        done = desk.attempt(("write", 0), ("write", 1), ("pull", 0, 1, 0), ("pull", 1, 0, 1))
+        self.assertEqual(repr(done), "4")
+        self.gives([[0, 1], [1, 0]], lambda: desk.logs)
+        self.gives(-7, desk.read, 0, "a")
+        self.gives(5, desk.read, 1, "a")
+        self.gives([("a", 0, 1, 1, 0)], desk.splits)

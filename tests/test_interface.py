@@ -122,6 +122,28 @@ FUNCTIONS = {
         "each_depths": "(cluster)",
         "depth_run": "(cluster, depths)",
     },
+    "ring": {
+        "ring_logs": "(cluster, depths)",
+        "ring_fault": "(cluster, logs)",
+        "restore_log": "(cluster, logs, depths, replica)",
+    },
+    "owners": {
+        "possible_homes": "(net, size, logs)",
+        "no_home": "(net, size, logs)",
+    },
+    "links": {
+        "needed_links": "(cluster, start, goal)",
+        "lean_net": "(cluster, start, goal)",
+        "helpful_links": "(cluster, start, goal)",
+        "suspects": "(cluster, goal)",
+    },
+    "free": {
+        "free_fault": "(cluster, logs)",
+        "free_plan": "(cluster, goal)",
+    },
+    "report": {
+        "report_text": "(cluster, logs, key_of, value_of)",
+    },
 }
 
 # For each module its classes, with their bases and with what stands in their own bodies.
@@ -183,6 +205,26 @@ CLASSES = {
             "fork": "(self)",
         }),
     },
+    "desk": {
+        "Desk": ("object", {
+            "__init__": "(self, cluster, key_of, value_of)",
+            "set_goal": "(self, logs)",
+            "clear_goal": "(self)",
+            "do": "(self, action)",
+            "attempt": "(self, *actions)",
+            "preview": "(self, *actions)",
+            "undo": "(self)",
+            "redo": "(self)",
+            "taken": "(self)",
+            "advance": "(self, count=1)",
+            "sync": "(self)",
+            "why": "(self, goal)",
+            "read": "(self, replica, key)",
+            "splits": "(self)",
+            "report": "(self)",
+            "fork": "(self)",
+        }),
+    },
 }
 
 
@@ -236,6 +278,8 @@ class InterfaceTest(unittest.TestCase):
             self.assertIsInstance(vars(module("guide").Guide)[name], property)
         for name in ("logs", "saved"):
             self.assertIsInstance(vars(module("diskstore").DiskStore)[name], property)
+        for name in ("logs", "goal", "left"):
+            self.assertIsInstance(vars(module("desk").Desk)[name], property)
 
     def test_the_class_values(self):
         self.assertEqual(vars(module("net").Net)["MOST"], 24)

@@ -4,8 +4,8 @@ import itertools
 import unittest
 
 from helpers import (
-    NO_TREES, NOWHERE, PromiseCase, all_logs, all_nets, all_reached, all_trees, chances, naive_carries,
-    reached_from, side_of, some_cluster, some_logs, some_run, some_tree,
+    NO_TREES, NOWHERE, PromiseCase, all_logs, all_nets, all_reached, all_trees, chances, naive_reachable, side_of,
+    some_cluster, some_logs, some_run, some_tree,
 )
 from pullstore.cluster import Cluster
 from pullstore.logs import restrict
@@ -35,17 +35,6 @@ def naive_tree_fault(cluster, logs):
         if fault:
             return (source, reader, *fault)
     return None
-
-
-def naive_reachable(cluster, logs):
-    """Whether the logs are reachable, as point 14 says: each entry is carried to all its holders."""
-    for entry, home in enumerate(cluster.homes):
-        holders = [x for x, log in enumerate(logs) if entry in log]
-        links = [(x, y) for x, y in cluster.net.links if naive_carries(logs, x, y, entry)]
-        roots = [home] if home in holders else []
-        if reached_from(links, roots) != holders:
-            return False
-    return True
 
 
 def naive_pair_fault(cluster, logs):

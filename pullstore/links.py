@@ -34,9 +34,10 @@ def reachable_routes(cluster, start, goal):
 
 
 def find_routes(cluster, before, after, masks):
-    """For each entry its roots, its holders in the logs after, and for each replica those to which it carries it.
+    """For each entry its roots, its holders in the logs after, and for each source the readers of carrying links.
 
-    Many nets are tried, so the replicas are the bits of integers: with these, a try is quick.
+    Each of these is an integer in which the bits of the replicas are set: many nets are tried, and with
+    integers a try is quick.
     """
     routes = []
     for entry in range(cluster.size):
@@ -122,8 +123,7 @@ def suspects(cluster, goal):
     after = check_logs(cluster, goal)
     if is_reachable(cluster, after):
         return []
-    entries = range(cluster.size)
-    return [entry for entry in entries if is_reachable(cluster, logs_without(after, entry))]
+    return [entry for entry in range(cluster.size) if is_reachable(cluster, logs_without(after, entry))]
 
 
 def is_reachable(cluster, logs):

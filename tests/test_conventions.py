@@ -2,8 +2,7 @@
 
 import unittest
 
-import test_interface
-from helpers import HUGE, PromiseCase, outcome, plain
+from helpers import CLASSES, FUNCTIONS, HUGE, PromiseCase, outcome, plain
 from pullstore.audit import audit, fits, fitting_actions, plan, reachable
 from pullstore.carry import carried_to, carries, carry_distances, roots_of
 from pullstore.causes import longest_chain, reorder, trace_causes, trace_layers
@@ -189,13 +188,13 @@ WRONG_LOGS = [
 
 def head_of(function):
     """The parameters of the function, as the interface writes them."""
-    return test_interface.FUNCTIONS[function.__module__.removeprefix("pullstore.")][function.__name__]
+    return FUNCTIONS[function.__module__.removeprefix("pullstore.")][function.__name__]
 
 
 class FunctionsTest(PromiseCase):
     def test_each_function_of_the_interface_is_asked(self):
         asked = {(function.__module__.removeprefix("pullstore."), function.__name__) for function, _, _ in QUESTIONS}
-        listed = {(name, word) for name, functions in test_interface.FUNCTIONS.items() for word in functions}
+        listed = {(name, word) for name, functions in FUNCTIONS.items() for word in functions}
         self.assertEqual(asked, listed)
 
     def test_each_answer_is_new_and_equal_the_second_time_and_changes_nothing(self):
@@ -259,7 +258,7 @@ class ClassesTest(PromiseCase):
             (Barrier, (1, [2, 0])), (Schedule, (TRACE,)), (Guide, (ON_LINE, START, GOAL)), (DiskStore, (ON_LINE, START)),
             (Desk, (ON_LINE, KEYS, VALUES)),
         ]
-        listed = {word for classes in test_interface.CLASSES.values() for word in classes}
+        listed = {word for classes in CLASSES.values() for word in classes}
         self.assertEqual({one.__name__ for one, _ in made}, listed)
         for one, arguments in made:
             self.ask(one, *arguments)
